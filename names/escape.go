@@ -1,0 +1,47 @@
+package names
+
+import (
+	"strings"
+
+	"satchel/fault"
+)
+
+// How far the small letters stand behind the capital ones.
+const capitalToSmall = 'a' - 'A'
+
+// Escape replaces each capital letter by "!" and the small one.
+func Escape(s string) (string, error) {
+	var out strings.Builder
+	for i := range len(s) {
+		c := s[i]
+		if c == '!' {
+			return "", fault.Of(ErrName, errByte)
+		}
+		if isCapital(c) {
+			out.WriteByte('!')
+			c += capitalToSmall
+		}
+		out.WriteByte(c)
+	}
+	return out.String(), nil
+}
+
+// Unescape tells the text that Escape makes s of.
+func Unescape(s string) (string, error) {
+	var out strings.Builder
+	for i := 0; i < len(s); i++ {
+		c := s[i]
+		if isCapital(c) {
+			return "", fault.Of(ErrName, errEscape)
+		}
+		if c == '!' {
+			i++
+			if i == len(s) || !isSmall(s[i]) {
+				return "", fault.Of(ErrName, errEscape)
+			}
+			c = s[i] - capitalToSmall
+		}
+		out.WriteByte(c)
+	}
+	return out.String(), nil
+}

@@ -1,0 +1,28 @@
+package satchel
+
+import (
+	"errors"
+
+	"satchel/api"
+	"satchel/fault"
+	"satchel/names"
+)
+
+// number tells the outermost fault's number: what it wraps is why, and not for the caller.
+func number(err error) api.Errno {
+	if err == nil {
+		return api.OK
+	}
+	var outermost *fault.Fault
+	if errors.As(err, &outermost) {
+		err = outermost.What
+	}
+	switch {
+	case errors.Is(err, names.ErrName):
+		return api.ErrName
+	case errors.Is(err, names.ErrVersion):
+		return api.ErrVersion
+	}
+	// An error without a number of its own must not pass for OK.
+	return api.ErrArg
+}

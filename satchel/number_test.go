@@ -1,0 +1,31 @@
+package satchel
+
+import (
+	"errors"
+	"testing"
+
+	"satchel/api"
+	"satchel/fault"
+	"satchel/names"
+)
+
+func TestNumber(t *testing.T) {
+	strange := errors.New("strange")
+	for _, c := range []struct {
+		err  error
+		want api.Errno
+	}{
+		{nil, api.OK},
+		{names.ErrName, api.ErrName},
+		{fault.Of(names.ErrName, nil), api.ErrName},
+		{fault.Of(names.ErrName, strange), api.ErrName},
+		{fault.Of(names.ErrVersion, strange), api.ErrVersion},
+		{fault.Of(names.ErrVersion, fault.Of(names.ErrName, strange)), api.ErrVersion},
+		{fault.Of(names.ErrName, fault.Of(names.ErrVersion, strange)), api.ErrName},
+		{strange, api.ErrArg},
+	} {
+		if got := number(c.err); got != c.want {
+			t.Errorf("number(%v) = %d, want %d", c.err, got, c.want)
+		}
+	}
+}

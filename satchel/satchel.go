@@ -1,0 +1,90 @@
+// Package satchel: bundles fetched through mirrors, checked, and kept: see DOC.md.
+package satchel
+
+import (
+	"satchel/api"
+	"satchel/names"
+)
+
+// Client fetches, and has a cache.
+type Client struct{}
+
+// CheckName tells whether it is a name (P3).
+func CheckName(name string) api.Errno { return number(names.CheckName(name)) }
+
+// CheckVersion tells whether it is a version (P3).
+func CheckVersion(version string) api.Errno { return number(names.CheckVersion(version)) }
+
+// Compare tells which of two versions is the greater (P3).
+func Compare(a string, b string) (int, api.Errno) {
+	order, err := names.Compare(a, b)
+	return order, number(err)
+}
+
+// Escape escapes capital letters (P3).
+func Escape(s string) (string, api.Errno) {
+	escaped, err := names.Escape(s)
+	return escaped, number(err)
+}
+
+// Unescape undoes Escape (P3).
+func Unescape(s string) (string, api.Errno) {
+	plain, err := names.Unescape(s)
+	return plain, number(err)
+}
+
+// Digest tells the SHA-256 (P4).
+func Digest(s string) string { return "" }
+
+// Inflate tells what a deflated text gives (P4).
+func Inflate(s string, most int) (string, api.Errno) { return "", api.OK }
+
+// Unpack tells an archive's files (P5).
+func Unpack(archive string, name string, version string) ([]api.File, api.Errno) {
+	return nil, api.OK
+}
+
+// Sum tells the sum of a head or an archive (P5).
+func Sum(kind int, body string, name string, version string) (string, api.Errno) {
+	return "", api.OK
+}
+
+// Read reads the reply to a dial (P6).
+func Read(d api.Dial, deadline int, limit int) api.Reply { return api.Reply{} }
+
+// Info reads what is told of a version (P7).
+func Info(text string) (api.About, api.Errno) { return api.About{}, api.OK }
+
+// List reads versions (P7).
+func List(text string) []string { return nil }
+
+// New makes a client (P8).
+func New(c api.Config, files []api.File) (*Client, []api.Step, api.Errno) {
+	return nil, nil, api.OK
+}
+
+// Lookup looks into the cache (P9).
+func (x *Client) Lookup(k api.Key) (string, api.Errno) { return "", api.OK }
+
+// Fetch fetches a key (P10).
+func (x *Client) Fetch(k api.Key, w api.World) api.Outcome { return api.Outcome{} }
+
+// FetchAll fetches some keys (P11).
+func (x *Client) FetchAll(keys []api.Key, worlds []api.World) ([]api.Outcome, api.Errno) {
+	return nil, api.OK
+}
+
+// Versions asks which versions there are (P12).
+func (x *Client) Versions(name string, w api.World) ([]string, api.Outcome) {
+	return nil, api.Outcome{}
+}
+
+// About asks about a version (P12).
+func (x *Client) About(name string, version string, w api.World) (api.About, api.Outcome) {
+	return api.About{}, api.Outcome{}
+}
+
+// Latest asks for the latest version (P12).
+func (x *Client) Latest(name string, w api.World) (string, api.Outcome) {
+	return "", api.Outcome{}
+}
