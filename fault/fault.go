@@ -1,6 +1,11 @@
 // Package fault: what goes wrong on the way, and what was wrong below it.
 package fault
 
+import "errors"
+
+// ErrArg is a number or a list that may not be, whatever package was handed it.
+var ErrArg = errors.New("no such argument")
+
 // Fault says what went wrong, by an error of the package that found it, and wraps why.
 type Fault struct {
 	What  error

@@ -4,6 +4,8 @@ import (
 	"errors"
 
 	"satchel/api"
+	"satchel/bundle"
+	"satchel/deflate"
 	"satchel/fault"
 	"satchel/names"
 )
@@ -18,10 +20,16 @@ func number(err error) api.Errno {
 		err = outermost.What
 	}
 	switch {
+	case errors.Is(err, fault.ErrArg):
+		return api.ErrArg
 	case errors.Is(err, names.ErrName):
 		return api.ErrName
 	case errors.Is(err, names.ErrVersion):
 		return api.ErrVersion
+	case errors.Is(err, deflate.ErrDeflate):
+		return api.ErrDeflate
+	case errors.Is(err, bundle.ErrBundle):
+		return api.ErrBundle
 	}
 	// An error without a number of its own must not pass for OK.
 	return api.ErrArg

@@ -5,6 +5,8 @@ import (
 	"testing"
 
 	"satchel/api"
+	"satchel/bundle"
+	"satchel/deflate"
 	"satchel/fault"
 	"satchel/names"
 )
@@ -22,6 +24,9 @@ func TestNumber(t *testing.T) {
 		{fault.Of(names.ErrVersion, strange), api.ErrVersion},
 		{fault.Of(names.ErrVersion, fault.Of(names.ErrName, strange)), api.ErrVersion},
 		{fault.Of(names.ErrName, fault.Of(names.ErrVersion, strange)), api.ErrName},
+		{fault.Of(fault.ErrArg, strange), api.ErrArg},
+		{fault.Of(deflate.ErrDeflate, strange), api.ErrDeflate},
+		{fault.Of(bundle.ErrBundle, fault.Of(deflate.ErrDeflate, strange)), api.ErrBundle},
 		{strange, api.ErrArg},
 	} {
 		if got := number(c.err); got != c.want {

@@ -3,6 +3,9 @@ package satchel
 
 import (
 	"satchel/api"
+	"satchel/bundle"
+	"satchel/deflate"
+	"satchel/digest"
 	"satchel/names"
 )
 
@@ -34,19 +37,24 @@ func Unescape(s string) (string, api.Errno) {
 }
 
 // Digest tells the SHA-256 (P4).
-func Digest(s string) string { return "" }
+func Digest(s string) string { return digest.Of(s) }
 
 // Inflate tells what a deflated text gives (P4).
-func Inflate(s string, most int) (string, api.Errno) { return "", api.OK }
+func Inflate(s string, most int) (string, api.Errno) {
+	plain, err := deflate.Inflate(s, most)
+	return plain, number(err)
+}
 
 // Unpack tells an archive's files (P5).
 func Unpack(archive string, name string, version string) ([]api.File, api.Errno) {
-	return nil, api.OK
+	files, err := bundle.Unpack(archive, name, version)
+	return files, number(err)
 }
 
 // Sum tells the sum of a head or an archive (P5).
 func Sum(kind int, body string, name string, version string) (string, api.Errno) {
-	return "", api.OK
+	sum, err := bundle.Sum(kind, body, name, version)
+	return sum, number(err)
 }
 
 // Read reads the reply to a dial (P6).

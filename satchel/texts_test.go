@@ -1,6 +1,9 @@
 package satchel_test
 
-import "strings"
+import (
+	"strings"
+	"unsafe"
+)
 
 // eachText calls f with every text of 0 to most bytes of the alphabet.
 func eachText(alphabet string, most int, f func(string)) {
@@ -38,4 +41,10 @@ func longTexts() []string {
 		"v1.0.0-" + strings.Repeat("1", many),
 		"v1.0.0-" + strings.Repeat("a.", many) + "a",
 	}
+}
+
+// shares tells whether b lies within a's memory.
+func shares(a string, b string) bool {
+	from, at := uintptr(unsafe.Pointer(unsafe.StringData(a))), uintptr(unsafe.Pointer(unsafe.StringData(b)))
+	return b != "" && at >= from && at < from+uintptr(len(a))
 }
