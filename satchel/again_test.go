@@ -2,6 +2,7 @@ package satchel_test
 
 import (
 	"fmt"
+	"strings"
 	"sync"
 	"testing"
 
@@ -21,6 +22,10 @@ type answers struct {
 	filesErr             api.Errno
 	head, archive        string
 	headErr, archiveErr  api.Errno
+	reply, ended         api.Reply
+	about                api.About
+	aboutErr             api.Errno
+	list                 string
 }
 
 func ask(s string) (a answers) {
@@ -35,6 +40,10 @@ func ask(s string) (a answers) {
 	a.files, a.filesErr = fmt.Sprint(files), e
 	a.head, a.headErr = satchel.Sum(api.Head, s, someName, someVersion)
 	a.archive, a.archiveErr = satchel.Sum(api.Archive, s, someName, someVersion)
+	a.reply = satchel.Read(dialOf(dataEvent(1, s), resetEvent(1)), 9, 100)
+	a.ended = satchel.Read(dialOf(dataEvent(1, s), closeEvent(1)), 9, 100)
+	a.about, a.aboutErr = satchel.Info(s)
+	a.list = strings.Join(satchel.List(s), " ")
 	return a
 }
 
@@ -42,7 +51,9 @@ func TestAnswersHangOnArgumentsAlone(t *testing.T) {
 	texts := []string{"", "a", "a/B", "!a", "v1.0.0", "v1.0.0-a", "v1.0.0-B", "v1.0.0-01", "v2.0.0", "\xff",
 		fixed('a', 'b', 256).text(), fixed('a', 'b').text(), storedBlock(1, "abc"), libraryDeflate("abcabcabc", 9),
 		archiveOf(storedFile("a", "one")), archiveOf(storedFile("b", "two"), deflatedFile("a", "one"), storedFile("c", noise(300))), archiveOf(storedFile("a", "one"))[1:],
+		"v1.0.0\nv0.1.0\nv1.0.0", `{"Version":"v1.0.0","Time":"now"}`, `{"Version":"v2.0.0"}`, `{"Version":"v1.0.0","a":1,"a":1}`,
 	}
+	texts = append(texts, someReplies...)
 	var first []answers
 	for _, s := range texts {
 		first = append(first, ask(s))

@@ -7,6 +7,7 @@ import (
 	"satchel/bundle"
 	"satchel/deflate"
 	"satchel/fault"
+	"satchel/info"
 	"satchel/names"
 )
 
@@ -30,6 +31,8 @@ func number(err error) api.Errno {
 		return api.ErrDeflate
 	case errors.Is(err, bundle.ErrBundle):
 		return api.ErrBundle
+	case errors.Is(err, info.ErrInfo):
+		return api.ErrInfo
 	}
 	// An error without a number of its own must not pass for OK.
 	return api.ErrArg

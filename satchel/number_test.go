@@ -8,6 +8,7 @@ import (
 	"satchel/bundle"
 	"satchel/deflate"
 	"satchel/fault"
+	"satchel/info"
 	"satchel/names"
 )
 
@@ -27,6 +28,7 @@ func TestNumber(t *testing.T) {
 		{fault.Of(fault.ErrArg, strange), api.ErrArg},
 		{fault.Of(deflate.ErrDeflate, strange), api.ErrDeflate},
 		{fault.Of(bundle.ErrBundle, fault.Of(deflate.ErrDeflate, strange)), api.ErrBundle},
+		{fault.Of(info.ErrInfo, fault.Of(names.ErrVersion, strange)), api.ErrInfo},
 		{strange, api.ErrArg},
 	} {
 		if got := number(c.err); got != c.want {

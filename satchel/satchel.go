@@ -6,7 +6,9 @@ import (
 	"satchel/bundle"
 	"satchel/deflate"
 	"satchel/digest"
+	"satchel/info"
 	"satchel/names"
+	"satchel/reply"
 )
 
 // Client fetches, and has a cache.
@@ -58,13 +60,16 @@ func Sum(kind int, body string, name string, version string) (string, api.Errno)
 }
 
 // Read reads the reply to a dial (P6).
-func Read(d api.Dial, deadline int, limit int) api.Reply { return api.Reply{} }
+func Read(d api.Dial, deadline int, limit int) api.Reply { return reply.Read(d, deadline, limit) }
 
 // Info reads what is told of a version (P7).
-func Info(text string) (api.About, api.Errno) { return api.About{}, api.OK }
+func Info(text string) (api.About, api.Errno) {
+	about, err := info.Read(text)
+	return about, number(err)
+}
 
 // List reads versions (P7).
-func List(text string) []string { return nil }
+func List(text string) []string { return names.List(text) }
 
 // New makes a client (P8).
 func New(c api.Config, files []api.File) (*Client, []api.Step, api.Errno) {
