@@ -24,7 +24,7 @@ func TestFaultsWrapReasons(t *testing.T) {
 		body, name, version string
 		what, reason        error
 	}{
-		{0, "", "", "", fault.ErrArg, errKind},
+		{0, "", "", "", fault.ErrArg, fault.ErrArg},
 		{api.Head, "", "", "", names.ErrName, names.ErrName},
 		{api.Head, "", "x", "", names.ErrVersion, names.ErrVersion},
 		{api.Archive, "", "", "", names.ErrName, names.ErrName},

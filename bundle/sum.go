@@ -1,41 +1,27 @@
 package bundle
 
 import (
-	"errors"
 	"strings"
 	"sync"
 
 	"satchel/api"
 	"satchel/digest"
-	"satchel/fault"
-	"satchel/names"
+	"satchel/keys"
 )
-
-var errKind = errors.New("no kind")
 
 // Sum tells the sum of a head, or of an archive of the name and version.
 func Sum(kind int, body string, name string, version string) (string, error) {
-	switch kind {
-	case api.Head:
-		return headSum(body, name, version)
-	case api.Archive:
-		files, err := Unpack(body, name, version)
-		if err != nil {
-			return "", err
-		}
-		return filesSum(files), nil
-	}
-	return "", fault.Of(fault.ErrArg, errKind)
-}
-
-func headSum(body string, name string, version string) (string, error) {
-	if err := names.CheckName(name); err != nil {
+	if err := keys.Check(api.Key{Kind: kind, Name: name, Version: version}); err != nil {
 		return "", err
 	}
-	if err := names.CheckVersion(version); err != nil {
+	if kind == api.Head {
+		return digest.Of(line(digest.Of(body), "head")), nil
+	}
+	files, err := Unpack(body, name, version)
+	if err != nil {
 		return "", err
 	}
-	return digest.Of(line(digest.Of(body), "head")), nil
+	return filesSum(files), nil
 }
 
 // filesSum takes the files by rising names.

@@ -11,19 +11,24 @@ const capitalToSmall = 'a' - 'A'
 
 // Escape replaces each capital letter by "!" and the small one.
 func Escape(s string) (string, error) {
+	if strings.Contains(s, "!") {
+		return "", fault.Of(ErrName, errByte)
+	}
+	return Escaped(s), nil
+}
+
+// Escaped is Escape of a text without "!", such as a name or a version.
+func Escaped(s string) string {
 	var out strings.Builder
 	for i := range len(s) {
 		c := s[i]
-		if c == '!' {
-			return "", fault.Of(ErrName, errByte)
-		}
 		if isCapital(c) {
 			out.WriteByte('!')
 			c += capitalToSmall
 		}
 		out.WriteByte(c)
 	}
-	return out.String(), nil
+	return out.String()
 }
 
 // Unescape tells the text that Escape makes s of.

@@ -5,10 +5,14 @@ import (
 
 	"satchel/api"
 	"satchel/bundle"
+	"satchel/client"
 	"satchel/deflate"
 	"satchel/fault"
 	"satchel/info"
+	"satchel/mirrors"
 	"satchel/names"
+	"satchel/sums"
+	"satchel/walk"
 )
 
 // number tells the outermost fault's number: what it wraps is why, and not for the caller.
@@ -23,6 +27,10 @@ func number(err error) api.Errno {
 	switch {
 	case errors.Is(err, fault.ErrArg):
 		return api.ErrArg
+	case errors.Is(err, mirrors.ErrMirrors):
+		return api.ErrMirrors
+	case errors.Is(err, sums.ErrSums):
+		return api.ErrSums
 	case errors.Is(err, names.ErrName):
 		return api.ErrName
 	case errors.Is(err, names.ErrVersion):
@@ -33,6 +41,20 @@ func number(err error) api.Errno {
 		return api.ErrBundle
 	case errors.Is(err, info.ErrInfo):
 		return api.ErrInfo
+	case errors.Is(err, sums.ErrNoSum):
+		return api.ErrNoSum
+	case errors.Is(err, walk.ErrSum):
+		return api.ErrSum
+	case errors.Is(err, walk.ErrOff):
+		return api.ErrOff
+	case errors.Is(err, walk.ErrDirect):
+		return api.ErrDirect
+	case errors.Is(err, walk.ErrNotFound):
+		return api.ErrNotFound
+	case errors.Is(err, walk.ErrFailed):
+		return api.ErrFailed
+	case errors.Is(err, client.ErrNone):
+		return api.ErrNone
 	}
 	// An error without a number of its own must not pass for OK.
 	return api.ErrArg

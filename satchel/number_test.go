@@ -6,10 +6,14 @@ import (
 
 	"satchel/api"
 	"satchel/bundle"
+	"satchel/client"
 	"satchel/deflate"
 	"satchel/fault"
 	"satchel/info"
+	"satchel/mirrors"
 	"satchel/names"
+	"satchel/sums"
+	"satchel/walk"
 )
 
 func TestNumber(t *testing.T) {
@@ -29,6 +33,15 @@ func TestNumber(t *testing.T) {
 		{fault.Of(deflate.ErrDeflate, strange), api.ErrDeflate},
 		{fault.Of(bundle.ErrBundle, fault.Of(deflate.ErrDeflate, strange)), api.ErrBundle},
 		{fault.Of(info.ErrInfo, fault.Of(names.ErrVersion, strange)), api.ErrInfo},
+		{fault.Of(mirrors.ErrMirrors, strange), api.ErrMirrors},
+		{fault.Of(sums.ErrSums, fault.Of(names.ErrName, strange)), api.ErrSums},
+		{fault.Of(sums.ErrNoSum, nil), api.ErrNoSum},
+		{fault.Of(walk.ErrSum, fault.Of(bundle.ErrBundle, strange)), api.ErrSum},
+		{fault.Of(walk.ErrOff, nil), api.ErrOff},
+		{fault.Of(walk.ErrDirect, nil), api.ErrDirect},
+		{fault.Of(walk.ErrNotFound, strange), api.ErrNotFound},
+		{fault.Of(walk.ErrFailed, fault.Of(info.ErrInfo, strange)), api.ErrFailed},
+		{fault.Of(client.ErrNone, fault.Of(walk.ErrSum, strange)), api.ErrNone},
 		{strange, api.ErrArg},
 	} {
 		if got := number(c.err); got != c.want {

@@ -11,9 +11,6 @@ import (
 	"satchel/reply"
 )
 
-// Client fetches, and has a cache.
-type Client struct{}
-
 // CheckName tells whether it is a name (P3).
 func CheckName(name string) api.Errno { return number(names.CheckName(name)) }
 
@@ -70,34 +67,3 @@ func Info(text string) (api.About, api.Errno) {
 
 // List reads versions (P7).
 func List(text string) []string { return names.List(text) }
-
-// New makes a client (P8).
-func New(c api.Config, files []api.File) (*Client, []api.Step, api.Errno) {
-	return nil, nil, api.OK
-}
-
-// Lookup looks into the cache (P9).
-func (x *Client) Lookup(k api.Key) (string, api.Errno) { return "", api.OK }
-
-// Fetch fetches a key (P10).
-func (x *Client) Fetch(k api.Key, w api.World) api.Outcome { return api.Outcome{} }
-
-// FetchAll fetches some keys (P11).
-func (x *Client) FetchAll(keys []api.Key, worlds []api.World) ([]api.Outcome, api.Errno) {
-	return nil, api.OK
-}
-
-// Versions asks which versions there are (P12).
-func (x *Client) Versions(name string, w api.World) ([]string, api.Outcome) {
-	return nil, api.Outcome{}
-}
-
-// About asks about a version (P12).
-func (x *Client) About(name string, version string, w api.World) (api.About, api.Outcome) {
-	return api.About{}, api.Outcome{}
-}
-
-// Latest asks for the latest version (P12).
-func (x *Client) Latest(name string, w api.World) (string, api.Outcome) {
-	return "", api.Outcome{}
-}
