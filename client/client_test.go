@@ -8,6 +8,7 @@ import (
 	"satchel/api"
 	"satchel/bundle"
 	"satchel/fault"
+	"satchel/info"
 	"satchel/mirrors"
 	"satchel/names"
 	"satchel/sums"
@@ -32,6 +33,10 @@ func checkFault(t *testing.T, what string, err error, outermost error, reason er
 	if !errors.As(err, &f) || f.What != outermost || !errors.Is(err, reason) {
 		t.Errorf("%s: %v, want %v: %v", what, err, outermost, reason)
 	}
+}
+
+func says(text string) api.Dial {
+	return api.Dial{Events: []api.Event{{What: api.Data, Data: text}}}
 }
 
 func TestFaultsOfNew(t *testing.T) {
@@ -61,11 +66,32 @@ func TestFaultsOfFetch(t *testing.T) {
 	if err != nil {
 		t.Fatal(err)
 	}
-	dial := api.Dial{Events: []api.Event{{What: api.Data, Data: "HTTP/1.1 200 OK\r\nContent-Length: 1\r\n\r\nx"}}}
-	world := api.World{Dials: []api.Dial{dial}}
+	world := api.World{Dials: []api.Dial{says("HTTP/1.1 200 OK\r\nContent-Length: 1\r\n\r\nx")}}
 	checkFault(t, "a wrong head", x.Fetch(head, world).Err, walk.ErrSum, errOther)
 	checkFault(t, "no archive", x.Fetch(zip, world).Err, walk.ErrSum, bundle.ErrBundle)
 	checkFault(t, "no dials", x.Fetch(zip, api.World{}).Err, walk.ErrFailed, walk.ErrFailed)
 	_, err = x.FetchAll([]api.Key{head}, nil)
 	checkFault(t, "no world", err, fault.ErrArg, errKeys)
+}
+
+func TestFaultsOfAsks(t *testing.T) {
+	x, _, err := New(config, nil)
+	if err != nil {
+		t.Fatal(err)
+	}
+	gone, empty := says("HTTP/1.1 404 \r\n\r\n"), says("HTTP/1.1 200 OK\r\nContent-Length: 0\r\n\r\n")
+	_, r := x.Versions("", api.World{})
+	checkFault(t, "Versions of no name", r.Err, names.ErrName, names.ErrName)
+	_, r = x.About("", "", api.World{})
+	checkFault(t, "About no name", r.Err, names.ErrName, names.ErrName)
+	_, r = x.About("x", "", api.World{})
+	checkFault(t, "About no version", r.Err, names.ErrVersion, names.ErrVersion)
+	_, r = x.About("x", "v1.0.0", api.World{Dials: []api.Dial{empty}})
+	checkFault(t, "About without sense", r.Err, walk.ErrFailed, info.ErrInfo)
+	_, r = x.Latest("", api.World{})
+	checkFault(t, "Latest of no name", r.Err, names.ErrName, names.ErrName)
+	_, r = x.Latest("x", api.World{Dials: []api.Dial{gone, empty}})
+	checkFault(t, "Latest of an empty list", r.Err, walk.ErrNotFound, errNoVersions)
+	_, r = x.Latest("x", api.World{Dials: []api.Dial{gone}})
+	checkFault(t, "Latest without a list", r.Err, walk.ErrFailed, walk.ErrFailed)
 }

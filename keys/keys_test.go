@@ -44,3 +44,15 @@ func TestPathsAndTails(t *testing.T) {
 		}
 	}
 }
+
+func TestPathsOfTexts(t *testing.T) {
+	for _, c := range []struct{ got, want string }{
+		{InfoPath("a.b/C-D_e", "v1.0.0-Rc.1"), "/a.b/!c-!d_e/@v/v1.0.0-!rc.1.info"},
+		{ListPath("a.b/C-D_e"), "/a.b/!c-!d_e/@v/list"},
+		{LatestPath("a.b/C-D_e"), "/a.b/!c-!d_e/@latest"},
+	} {
+		if c.got != c.want {
+			t.Errorf("%q, want %q", c.got, c.want)
+		}
+	}
+}

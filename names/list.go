@@ -31,6 +31,20 @@ func List(text string) []string {
 	return texts
 }
 
+// Latest tells, of versions by their order, the last one without marks, or else the last; empty, if there is none.
+func Latest(rising []string) string {
+	latest := ""
+	for _, v := range rising {
+		if latest == "" || hasMarks(latest) || !hasMarks(v) {
+			latest = v
+		}
+	}
+	return latest
+}
+
+// hasMarks is asked of versions only: in these no number has a "-".
+func hasMarks(version string) bool { return strings.Contains(version, "-") }
+
 func compareListed(a listed, b listed) int { return compareVersions(a.version, b.version) }
 
 func sameText(a listed, b listed) bool { return a.text == b.text }

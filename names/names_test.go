@@ -8,7 +8,7 @@ import (
 	"satchel/fault"
 )
 
-// The promises are tested at the face (package satchel); here: what the errors wrap.
+// The promises are tested at the face (package satchel); here: what the errors wrap, and what no call hands out as it is.
 
 func TestErrorsWrapWhy(t *testing.T) {
 	escape := func(s string) error { _, err := Escape(s); return err }
@@ -43,6 +43,22 @@ func TestErrorsWrapWhy(t *testing.T) {
 		var f *fault.Fault
 		if !errors.As(err, &f) || f.What != c.what || !errors.Is(err, c.why) {
 			t.Errorf("%.40q: got %v, want %v: %v", c.text, err, c.what, c.why)
+		}
+	}
+}
+
+func TestLatest(t *testing.T) {
+	for _, c := range []struct{ rising, want string }{
+		{"", ""},
+		{"v1.0.0", "v1.0.0"},
+		{"v1.0.0-a", "v1.0.0-a"},
+		{"v1.0.0-a v1.0.0-b", "v1.0.0-b"},
+		{"v1.0.0 v2.0.0", "v2.0.0"},
+		{"v1.0.0-a v1.0.0 v2.0.0-a v2.0.0-b", "v1.0.0"},
+		{"v0.1.0 v1.0.0-a v1.0.0 v2.0.0-a", "v1.0.0"},
+	} {
+		if got := Latest(strings.Fields(c.rising)); got != c.want {
+			t.Errorf("Latest(%q) = %q, want %q", c.rising, got, c.want)
 		}
 	}
 }

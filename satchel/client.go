@@ -37,28 +37,31 @@ func (x *Client) FetchAll(keys []api.Key, worlds []api.World) ([]api.Outcome, ap
 		return nil, number(err)
 	}
 	outcomes := make([]api.Outcome, 0, len(fetched))
-	for _, f := range fetched {
-		outcomes = append(outcomes, outcome(f))
+	for _, r := range fetched {
+		outcomes = append(outcomes, outcome(r))
 	}
 	return outcomes, api.OK
 }
 
-func outcome(f client.Fetched) api.Outcome {
-	f.Outcome.Err = number(f.Err)
-	return f.Outcome
+func outcome(r client.Result) api.Outcome {
+	r.Outcome.Err = number(r.Err)
+	return r.Outcome
 }
 
 // Versions asks which versions there are (P12).
 func (x *Client) Versions(name string, w api.World) ([]string, api.Outcome) {
-	return nil, api.Outcome{}
+	versions, r := x.kept.Versions(name, w)
+	return versions, outcome(r)
 }
 
 // About asks about a version (P12).
 func (x *Client) About(name string, version string, w api.World) (api.About, api.Outcome) {
-	return api.About{}, api.Outcome{}
+	about, r := x.kept.About(name, version, w)
+	return about, outcome(r)
 }
 
 // Latest asks for the latest version (P12).
 func (x *Client) Latest(name string, w api.World) (string, api.Outcome) {
-	return "", api.Outcome{}
+	version, r := x.kept.Latest(name, w)
+	return version, outcome(r)
 }

@@ -145,8 +145,10 @@ func mirrorsOf(o api.Outcome) string {
 }
 
 // plainRequest asks for a whole body.
-func plainRequest(k api.Key, mirror string) string {
-	return "GET " + pathOf(k) + " HTTP/1.1\r\nHost: " + mirror + "\r\n\r\n"
+func plainRequest(k api.Key, mirror string) string { return requestFor(pathOf(k), mirror) }
+
+func requestFor(path string, mirror string) string {
+	return "GET " + path + " HTTP/1.1\r\nHost: " + mirror + "\r\n\r\n"
 }
 
 func restRequest(k api.Key, mirror string, bytes int, tag string) string {

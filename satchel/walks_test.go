@@ -68,10 +68,12 @@ func (s *slowClient) lookup(k api.Key) (string, api.Errno) {
 	return "", api.ErrNone
 }
 
-// A slowWalk is a Fetch that is under way.
+// A slowWalk is a call that is under way; it has a key only if it is a Fetch.
 type slowWalk struct {
 	*slowClient
 	key     api.Key
+	path    string
+	judge   func(body string) int
 	world   api.World
 	outcome api.Outcome
 	left    [3]string // mirror, tag, bytes
@@ -79,11 +81,24 @@ type slowWalk struct {
 	body    string    // that is Done
 }
 
+// What a judge says of a body.
+const (
+	isGood = iota
+	isWrong
+	isNoSense
+)
+
 func (s *slowClient) fetch(k api.Key, w api.World) api.Outcome {
 	if _, e := s.lookup(k); e != api.ErrNone {
 		return api.Outcome{Err: e}
 	}
-	walk := &slowWalk{slowClient: s, key: k, world: w}
+	walk := &slowWalk{slowClient: s, key: k, path: pathOf(k), world: w}
+	walk.judge = func(body string) int {
+		if s.isRight(k, body) {
+			return isGood
+		}
+		return isWrong
+	}
 	if k.Kind == api.Archive {
 		walk.left = s.leftOf(s.files["p/"+tailOf(k)])
 	}
@@ -148,9 +163,9 @@ func (w *slowWalk) through() api.Errno {
 		class := w.once(entry, tries)
 		tries++
 		switch {
-		case class == api.Done && w.isRight(w.key, w.body):
+		case class == api.Done && w.judge(w.body) == isGood:
 			return api.OK
-		case class == api.Done:
+		case class == api.Done && w.judge(w.body) == isWrong:
 			return api.ErrSum
 		case class == api.Again && tries < w.config.Tries:
 			continue
@@ -169,7 +184,7 @@ func (w *slowWalk) once(mirror string, before int) int {
 		w.wait(before)
 	}
 	w.asked = w.left[0] == mirror
-	request := plainRequest(w.key, mirror)
+	request := requestFor(w.path, mirror)
 	if w.asked {
 		request = restRequest(w.key, mirror, len(w.left[2]), w.left[1])
 	}
@@ -285,14 +300,19 @@ func (c chance) other() api.Dial {
 }
 
 func (c chance) world(k api.Key) api.World {
-	var w api.World
+	var dials []api.Dial
 	for range c.Intn(12) {
-		w.Dials = append(w.Dials, c.dial(contentOf(k)))
+		dials = append(dials, c.dial(contentOf(k)))
 	}
+	return api.World{Dials: dials, Draws: c.draws()}
+}
+
+func (c chance) draws() []int {
+	var draws []int
 	for range c.Intn(6) {
-		w.Draws = append(w.Draws, []int{0, 1, 2, 5, 77, -1, -1 << 63, 1<<63 - 1}[c.Intn(8)])
+		draws = append(draws, []int{0, 1, 2, 5, 77, -1, -1 << 63, 1<<63 - 1}[c.Intn(8)])
 	}
-	return w
+	return draws
 }
 
 func (c chance) key() api.Key {
